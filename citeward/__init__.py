@@ -1,0 +1,1 @@
+"""Citeward: works that are pointed to."""

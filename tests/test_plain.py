@@ -1,0 +1,84 @@
+import unittest
+
+from citeward.plain import is_name, is_pair, is_plain, is_whole
+
+NO_TEXTS = (None, 1, 0, True, False, 1.5, [], ["a"], (), ("a",), {}, {"a": "a"}, b"a")
+
+
+class Whole(unittest.TestCase):
+
+    def test_whole_numbers(self):
+        for value in (0, 1, -1, 7, 10 ** 59, -(10 ** 59)):
+            self.assertIs(is_whole(value), True, value)
+
+    def test_a_truth_is_none(self):
+        self.assertIs(is_whole(True), False)
+        self.assertIs(is_whole(False), False)
+
+    def test_others(self):
+        for value in (None, "1", "", 1.0, [1], (1,), {}):
+            self.assertIs(is_whole(value), False, value)
+
+
+class Pair(unittest.TestCase):
+
+    def test_pairs(self):
+        for value in ((1, 2), ("a", None), ((), [])):
+            self.assertIs(is_pair(value), True, value)
+
+    def test_others(self):
+        for value in ((), (1,), (1, 2, 3), [1, 2], "ab", {1: 1, 2: 2}, None, 2):
+            self.assertIs(is_pair(value), False, value)
+
+
+class Name(unittest.TestCase):
+
+    def test_names(self):
+        for value in ("a", "z", "in", "kind", "abcdefgh", "stuvwxyz", "ijklmnop", "qr"):
+            self.assertIs(is_name(value), True, value)
+
+    def test_length(self):
+        self.assertIs(is_name(""), False)
+        self.assertIs(is_name("a" * 8), True)
+        self.assertIs(is_name("a" * 9), False)
+
+    def test_every_sign(self):
+        for number in range(128):
+            sign = chr(number)
+            self.assertIs(is_name("a" + sign), "a" <= sign <= "z", repr(sign))
+
+    def test_beyond_ascii(self):
+        for value in ("\u00e4", "\u00df", "\u03b1", "\u00aa"):
+            self.assertIs(is_name(value), False, value)
+
+    def test_no_texts(self):
+        for value in NO_TEXTS:
+            self.assertIs(is_name(value), False, value)
+
+
+class Plain(unittest.TestCase):
+
+    def test_every_sign(self):
+        for number in range(128):
+            sign = chr(number)
+            plain = sign.isalnum() or sign in " .,!?'-/()&+*="
+            self.assertIs(is_plain(sign), plain, repr(sign))
+            self.assertIs(is_plain("a" + sign + "b"), plain, repr(sign))
+
+    def test_length(self):
+        self.assertIs(is_plain(""), False)
+        self.assertIs(is_plain(" "), True)
+        self.assertIs(is_plain("Z" * 80), True)
+        self.assertIs(is_plain("Z" * 81), False)
+
+    def test_beyond_ascii(self):
+        for value in ("\u00e4", "\u00b2", "\u0663", "\u00a0", "\u2019"):
+            self.assertIs(is_plain(value), False, value)
+
+    def test_no_texts(self):
+        for value in NO_TEXTS:
+            self.assertIs(is_plain(value), False, value)
+
+
+if __name__ == "__main__":
+    unittest.main()
