@@ -1,9 +1,11 @@
-"""What a whole number, a pair, a name and a plain text are [2]."""
+"""What a whole number, a pair, a name and a plain text are [2], and what several modules ask of signs and lists."""
 
 # The signs are written out: Python's own isalpha and isdigit let in letters and figures beyond ASCII.
 SMALL_LETTERS = "abcdefghijklmnopqrstuvwxyz"
 LETTERS = "ABCDEFGHIJKLMNOPQRSTUVWXYZabcdefghijklmnopqrstuvwxyz"
 PLAIN_SIGNS = "ABCDEFGHIJKLMNOPQRSTUVWXYZabcdefghijklmnopqrstuvwxyz0123456789 .,!?'-/()&+*="
+# The signs of templates [11]: the plain ones with two more.
+STYLE_SIGNS = "ABCDEFGHIJKLMNOPQRSTUVWXYZabcdefghijklmnopqrstuvwxyz0123456789 .,!?'-/()&+*=:;"
 NAME_LENGTH = 8
 PLAIN_LENGTH = 80
 
@@ -17,10 +19,14 @@ def is_pair(value):
     return isinstance(value, tuple) and len(value) == 2
 
 
+def is_all_of(text, signs):
+    return all([sign in signs for sign in text])
+
+
 def is_text_of(value, signs, most):
     if not isinstance(value, str):
         return False
-    return 1 <= len(value) <= most and all([sign in signs for sign in value])
+    return 1 <= len(value) <= most and is_all_of(value, signs)
 
 
 def is_name(value):
@@ -29,3 +35,11 @@ def is_name(value):
 
 def is_plain(value):
     return is_text_of(value, PLAIN_SIGNS, PLAIN_LENGTH)
+
+
+def each_once(things):
+    # A dict keeps the order in which its keys came first.
+    found = {}
+    for thing in things:
+        found[thing] = True
+    return list(found)

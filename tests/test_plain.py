@@ -1,6 +1,6 @@
 import unittest
 
-from citeward.plain import is_name, is_pair, is_plain, is_whole
+from citeward.plain import PLAIN_SIGNS, STYLE_SIGNS, each_once, is_all_of, is_name, is_pair, is_plain, is_whole
 
 NO_TEXTS = (None, 1, 0, True, False, 1.5, [], ["a"], (), ("a",), {}, {"a": "a"}, b"a")
 
@@ -78,6 +78,31 @@ class Plain(unittest.TestCase):
     def test_no_texts(self):
         for value in NO_TEXTS:
             self.assertIs(is_plain(value), False, value)
+
+
+class Signs(unittest.TestCase):
+
+    def test_signs_of_a_style(self):
+        self.assertEqual(STYLE_SIGNS, PLAIN_SIGNS + ":;")
+
+    def test_all_of(self):
+        self.assertIs(is_all_of("", "ab"), True)
+        self.assertIs(is_all_of("abba", "ab"), True)
+        self.assertIs(is_all_of("abc", "ab"), False)
+        self.assertIs(is_all_of("a", ""), False)
+        self.assertIs(is_all_of("a" * 20000, "a"), True)
+
+
+class EachOnce(unittest.TestCase):
+
+    def test_in_the_order_in_which_they_come_first(self):
+        for things, answer in (([], []), (["a"], ["a"]), (["b", "a", "b", "c", "a"], ["b", "a", "c"])):
+            before = list(things)
+            told = each_once(things)
+            self.assertEqual(told, answer)
+            told.append("x")
+            self.assertEqual(things, before)
+            self.assertEqual(each_once(things), answer)
 
 
 if __name__ == "__main__":
