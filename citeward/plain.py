@@ -3,6 +3,7 @@
 # The signs are written out: Python's own isalpha and isdigit let in letters and figures beyond ASCII.
 SMALL_LETTERS = "abcdefghijklmnopqrstuvwxyz"
 LETTERS = "ABCDEFGHIJKLMNOPQRSTUVWXYZabcdefghijklmnopqrstuvwxyz"
+FIGURES = "0123456789"
 PLAIN_SIGNS = "ABCDEFGHIJKLMNOPQRSTUVWXYZabcdefghijklmnopqrstuvwxyz0123456789 .,!?'-/()&+*="
 # The signs of templates [11]: the plain ones with two more.
 STYLE_SIGNS = "ABCDEFGHIJKLMNOPQRSTUVWXYZabcdefghijklmnopqrstuvwxyz0123456789 .,!?'-/()&+*=:;"
@@ -43,3 +44,16 @@ def each_once(things):
     for thing in things:
         found[thing] = True
     return list(found)
+
+
+def angled(text, signs):
+    # By turns what stands outside of < and > and what stands within, beginning and ending outside; None where a sign
+    # outside is not one of these, or where a < has no end.
+    runs = text.split("<")
+    cuts = [runs[0]]
+    for run in runs[1:]:
+        halves = run.partition(">")
+        if halves[1] == "":
+            return None
+        cuts.extend([halves[0], halves[2]])
+    return cuts if is_all_of("".join(cuts[::2]), signs) else None

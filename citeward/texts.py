@@ -1,27 +1,22 @@
 """Texts with pointings: read, shown again, and the keys to which a note points [17], [18]."""
 
 from citeward.errors import NoText
-from citeward.plain import STYLE_SIGNS, is_all_of, is_name, is_plain
+from citeward.plain import STYLE_SIGNS, angled, is_name, is_plain
 
 
 def read_text(text):
     if not isinstance(text, str):
         raise NoText("a text with pointings is a text")
-    runs = text.split("<")
-    parts = read_run(runs[0])
-    for run in runs[1:]:
-        halves = run.partition(">")
-        if halves[1] == "":
-            raise NoText("a pointing has no end")
-        parts.append(read_point(halves[0]))
-        parts.extend(read_run(halves[2]))
+    cuts = angled(text, STYLE_SIGNS + "\n")
+    if cuts is None:
+        raise NoText("a sign stands where it may not, or a pointing has no end")
+    parts = []
+    for place, cut in enumerate(cuts):
+        if place % 2 == 1:
+            parts.append(read_point(cut))
+        elif cut != "":
+            parts.append(cut)
     return parts
-
-
-def read_run(run):
-    if not is_all_of(run, STYLE_SIGNS + "\n"):
-        raise NoText("a sign stands where it may not")
-    return [] if run == "" else [run]
 
 
 def read_point(text):

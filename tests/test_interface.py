@@ -2,7 +2,7 @@ import importlib
 import inspect
 import unittest
 
-# The names and arguments of the interface, as far as it has landed.
+# The names and arguments of the interface.
 INTERFACE = {
     "hands": ("read_hands(text)", "show_hands(hands)", "told_hand(hand, way)", "told_hands(hands, many, way)"),
     "shelves": ("way(shelf, table, key, field)", "had(shelf, table, key, field)", "all_had(shelf, table, key, fields)"),
@@ -11,6 +11,11 @@ INTERFACE = {
     "texts": ("read_text(text)", "show_text(parts)", "note_keys(work)"),
     "setting": ("listed(shelf, keys, many)", "in_order(shelf, table, keys, fields)",
                 "steps_of(shelf, table, keys, ladder)", "set_text(shelf, table, style, text)"),
+    "pools": ("pool_of(book, shelf, rules)", "pour(one, other)", "heap_of(pool, name)", "tells(heap, field)",
+              "shelf_of(pool)"),
+    "changes": ("put_in(rows, row, place)", "changes(rows, row, place)"),
+    "marks": ("marked(T, F)", "write_list(shelf, table, keys, T)", "read_list(text)"),
+    "desk": ("Desk()",),
 }
 
 
@@ -23,6 +28,10 @@ class Interface(unittest.TestCase):
                 with self.subTest(written):
                     function = getattr(module, written.partition("(")[0])
                     self.assertEqual(function.__name__ + str(inspect.signature(function)), written)
+
+    def test_the_desk(self):
+        desk = importlib.import_module("citeward.desk").Desk()
+        self.assertEqual(str(inspect.signature(desk.say)), "(row)")
 
 
 if __name__ == "__main__":

@@ -1,6 +1,7 @@
 import unittest
 
-from citeward.plain import PLAIN_SIGNS, STYLE_SIGNS, each_once, is_all_of, is_name, is_pair, is_plain, is_whole
+from citeward.plain import (
+    PLAIN_SIGNS, STYLE_SIGNS, angled, each_once, is_all_of, is_name, is_pair, is_plain, is_whole)
 
 NO_TEXTS = (None, 1, 0, True, False, 1.5, [], ["a"], (), ("a",), {}, {"a": "a"}, b"a")
 
@@ -103,6 +104,18 @@ class EachOnce(unittest.TestCase):
             told.append("x")
             self.assertEqual(things, before)
             self.assertEqual(each_once(things), answer)
+
+
+class Angled(unittest.TestCase):
+
+    def test_by_turns(self):
+        for text, cuts in (("", [""]), ("ab", ["ab"]), ("<x>", ["", "x", ""]), ("a<x>b", ["a", "x", "b"]),
+                           ("<>", ["", "", ""]), ("<x><y>", ["", "x", "", "y", ""]), ("<x^ \n>b<a>", ["", "x^ \n", "b", "a", ""])):
+            self.assertEqual(angled(text, "ab"), cuts)
+
+    def test_none(self):
+        for text in ("x", "<", ">", "<x", "x>", "<x>>", "<<x>", "<x>y", "<x>a<", "a<x>b<y", "<<>>", "A"):
+            self.assertIsNone(angled(text, "ab"))
 
 
 if __name__ == "__main__":
