@@ -384,6 +384,15 @@ class Style(CaseDesk):
             self.refuses(NoNumber, desk, "many " + word)
         self.answered(desk, ("set <a>", "()\n"))
 
+    def test_every_sign_of_a_number(self):
+        desk = Desk()
+        for sign in [chr(number) for number in range(128) if chr(number) != " "]:
+            if "0" <= sign <= "9":
+                self.fine(desk, "many 1" + sign)
+            else:
+                self.refuses(NoNumber, desk, "many 1" + sign)
+                self.refuses(NoNumber, desk, "many " + sign)
+
 
 class Set(CaseDesk):
 
